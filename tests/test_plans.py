@@ -4,42 +4,11 @@ import unittest
 from eggfloors.errors import NoCase, NoFloor, NoPlan
 from eggfloors.plans import looked, plan, walked
 from eggfloors.reach import choices, fewest
-from reckoning import (BELOW, FORTY, fewest_table, first_drops, halving, refused, replaced, right_plans, things_used,
-                       upward)
+from reckoning import (BELOW, FORTY, NOT_THE_RULES, check_rule, fewest_table, first_drops, halving, no_cases,
+                       other_forms, other_numbers, other_ways_round, refused, replaced, right_trees, small_plans,
+                       things_used, upward)
 
 TABLE = fewest_table(60, 12)
-NO_HOUSE = BELOW + (61, 62, 80, 1000, 1001, 10 ** 39, FORTY)
-NO_THINGS = BELOW + (13, 14, 10 ** 39, FORTY)
-NOT_THE_RULES = ("drop", 2, ("drop", 1, ("told", 0), ("told", 1)), ("told", 2))
-
-
-def small_plans():
-    for floors in range(5):
-        for things in range(1, 4):
-            for tree, drops in right_plans(0, floors, things):
-                yield tree, drops, floors, things
-
-
-def other_numbers(node):
-    numbers = [number for number in range(-2, 9) if number != node[1]] + [-FORTY, FORTY]
-    return [(node[0], number) + node[2:] for number in numbers]
-
-
-def other_forms(node):
-    floor = node[1]
-    if node[0] == "drop":
-        return [("told", number) for number in range(floor - 2, floor + 2)]
-    return [("drop", number, ("told", number - 1), ("told", number)) for number in range(floor - 1, floor + 3)]
-
-
-def other_ways_round(node):
-    return [("drop", node[1], node[3], node[2])] if node[0] == "drop" else []
-
-
-def right_trees():
-    """Larger right plans, with floors and things."""
-    return [(plan(60, 3), 60, 3), (plan(60, 12), 60, 12), (upward(0, 60), 60, 1), (upward(0, 60), 60, 12),
-            (halving(0, 60), 60, 5), (halving(0, 37), 37, 12), (NOT_THE_RULES, 2, 2), (("told", 0), 0, 0)]
 
 
 class CaseTest(unittest.TestCase):
@@ -50,19 +19,9 @@ class CaseTest(unittest.TestCase):
             for floor in (0, 1, -1, FORTY):
                 refused(self, NoCase, walked, tree, floors, things, floor)
 
-    def test_houses(self):
-        for floors in NO_HOUSE:
-            for things in (0, 1, 12):
-                self.check(floors, things)
-
-    def test_things(self):
-        for things in NO_THINGS:
-            for floors in (0, 1, 60):
-                self.check(floors, things)
-
-    def test_floors_and_no_thing(self):
-        for floors in (1, 2, 59, 60):
-            self.check(floors, 0)
+    def test_no_case(self):
+        for floors, things in no_cases(60):
+            self.check(floors, things)
 
     def test_a_house_of_more_than_sixty_floors_though_the_tree_is_right(self):
         for floors in (61, 62, 79):
@@ -92,19 +51,9 @@ class PlanTest(unittest.TestCase):
     def test_every_drop_is_the_least_of_the_first_drops(self):
         for floors in range(61):
             for things in range(1, 13):
-                self.follows(plan(floors, things), 0, floors, things)
-
-    def follows(self, tree, low, high, things):
-        self.assertIs(type(tree), tuple)
-        self.assertIs(type(tree[1]), int)
-        if low == high:
-            self.assertEqual(tree, ("told", low))
-            return
-        self.assertEqual(tree[:2], ("drop", low + first_drops(TABLE, high - low, things)[0]))
-        self.assertEqual(tree[1], low + choices(high - low, things)[0])
-        self.assertEqual(len(tree), 4)
-        self.follows(tree[2], low, tree[1] - 1, things - 1)
-        self.follows(tree[3], tree[1], high, things)
+                tree = plan(floors, things)
+                check_rule(self, tree, 0, floors, things, lambda left, having: first_drops(TABLE, left, having)[0])
+                check_rule(self, tree, 0, floors, things, lambda left, having: choices(left, having)[0])
 
     def test_it_is_right_and_has_the_fewest_drops(self):
         for floors in range(61):

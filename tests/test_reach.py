@@ -3,15 +3,13 @@ import unittest
 
 from eggfloors.errors import NoCase
 from eggfloors.reach import choices, fewest, reach
-from reckoning import BELOW, FORTY, fewest_table, first_drops, reach_sum, refused
+from reckoning import BELOW, FORTY, NO_THINGS, fewest_table, first_drops, no_cases, reach_sum, refused
 
 SMALL = 70
 TABLE = fewest_table(SMALL, 12)
 # Beside the bounds, houses that are just in reach of some things and drops, or just beyond it.
 LARGE = (71, 78, 79, 91, 92, 127, 128, 199, 200, 201, 202, 255, 256, 298, 299, 511, 512, 637, 638, 967, 968, 990, 991,
          998, 999, 1000)
-NO_HOUSE = BELOW + (1001, 1002, 10 ** 39, FORTY)
-NO_THINGS = BELOW + (13, 14, 10 ** 39, FORTY)
 
 
 def needs(things):
@@ -72,16 +70,9 @@ class HouseTest(unittest.TestCase):
         self.assertEqual(choices(floors=100, things=2), (9, 14))
 
     def test_no_case(self):
-        for call in (fewest, choices):
-            for floors in NO_HOUSE:
-                for things in (0, 1, 12):
-                    refused(self, NoCase, call, floors, things)
-            for things in NO_THINGS:
-                for floors in (0, 1, 1000):
-                    refused(self, NoCase, call, floors, things)
-            for floors in (1, 2, 60, 61, 1000):
-                refused(self, NoCase, call, floors, 0)
-            refused(self, NoCase, call, FORTY, FORTY)
+        for floors, things in no_cases(1000) + [(60, 0), (61, 0)]:
+            refused(self, NoCase, fewest, floors, things)
+            refused(self, NoCase, choices, floors, things)
 
 
 class FewestTest(unittest.TestCase):
